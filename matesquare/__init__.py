@@ -1,0 +1,1 @@
+"""Squares of letters, and their mates."""
