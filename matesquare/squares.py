@@ -1,6 +1,6 @@
 """Squares of letters: what one is, and what stands where in it."""
 
-from matesquare.errors import BadPlace, BadSquare
+from matesquare.errors import BadNumber, BadPlace, BadSquare
 
 LARGEST_SIZE = 9
 
@@ -12,17 +12,25 @@ def is_number_below(many, thing):
     return 0 <= thing < many
 
 
-def is_order(many, thing):
+def is_part_of_order(many, thing):
     if not isinstance(thing, tuple):
         return False
-    # Things of unlike kinds can't be sorted, so the numbers are looked at first.
+    # Some things can't be counted in a set, so the numbers are looked at first.
     if not all([is_number_below(many, number) for number in thing]):
         return False
-    return sorted(thing) == list(range(many))
+    return len(set(thing)) == len(thing)
+
+
+def is_order(many, thing):
+    return is_part_of_order(many, thing) and len(thing) == many
 
 
 def column_of(rows, column):
     return tuple([row[column] for row in rows])
+
+
+def columns_of(rows):
+    return tuple([column_of(rows, column) for column in range(len(rows[0]))])
 
 
 def is_square(thing):
@@ -32,13 +40,18 @@ def is_square(thing):
     # The rows come first: only when each has its full length can columns be taken.
     if not all([is_order(many, row) for row in thing]):
         return False
-    return all([is_order(many, column_of(thing, column)) for column in range(many)])
+    return all([is_order(many, column) for column in columns_of(thing)])
 
 
 def checked(square):
     if not is_square(square):
         raise BadSquare("this is no square of a size from 1 to 9")
     return square
+
+
+def check_many(thing):
+    if not is_number_below(LARGEST_SIZE + 1, thing) or thing == 0:
+        raise BadNumber("this is no size from 1 to 9")
 
 
 def check_number(many, thing):

@@ -1,6 +1,7 @@
 """Squares to test with, wrong things of many kinds, and slow, plain answers to compare with."""
 
-from itertools import combinations, permutations
+from itertools import combinations, permutations, product
+from time import perf_counter
 
 
 def turned(many, step=1):
@@ -9,6 +10,23 @@ def turned(many, step=1):
 
 def square_of(text):
     return tuple(tuple("abcdefghi".index(sign) for sign in row) for row in text.split("/"))
+
+
+def times_in_field(many, one, other):
+    """Of sizes 4 and 8, in both of which the size, as a power of two, stands for three."""
+    found = 0
+    while other:
+        found ^= one if other % 2 else 0
+        one *= 2
+        one = one if one < many else (one - many) ^ 3
+        other //= 2
+    return found
+
+
+def fielded(many, step):
+    """Of sizes 4 and 8: any two of unlike steps from 1 on are mates."""
+    return tuple(tuple(times_in_field(many, row, step) ^ column for column in range(many))
+                 for row in range(many))
 
 
 def shuffled(square, rows, columns, letters):
@@ -25,6 +43,17 @@ FIVE_WITH_FEW = square_of("abcde/cabed/bedca/dceab/edabc")
 SIX_WITHOUT = square_of("abcdef/bcafde/cabefd/defabc/efdcab/fdebca")
 SIX_WITH_CUTS = square_of("abcdef/eafbdc/bceafd/dfbeca/cdafbe/fedcab")
 SEVEN_UNEVEN = square_of("abcdefg/bcdgfae/egbfdca/gdacbef/dfgeabc/faebcgd/cefagdb")
+
+# By how many cuts each one has: five with mates, two without.
+SEVEN_WITH_23 = square_of("ecbgdfa/cgebfad/dbfaegc/bfadceg/gadfbce/adcegbf/fegcadb")
+SEVEN_WITH_25 = square_of("agbfdec/feadgcb/bdgcefa/ecfgabd/dacebgf/cbeafdg/gfdbcae")
+SEVEN_WITH_30 = square_of("bdecagf/fadecbg/cgafedb/ebfdgac/gfcbdea/aebgfcd/dcgabfe")
+SEVEN_WITH_33 = square_of("bgadfec/gbfeacd/afbgcde/daecgfb/fecbdga/cdgaebf/ecdfbag")
+SEVEN_WITH_63 = square_of("bcfdgae/agcefbd/edacbfg/febgadc/gadfecb/cbeadgf/dfgbcea")
+SEVEN_WITH_3 = square_of("bcagdef/dfbacge/agdbefc/eacdfbg/fdgebca/cbefgad/gefcadb")
+SEVEN_WITH_55 = square_of("abfgdce/dagfceb/fgacebd/gfeabdc/ecdbagf/bdcefag/cebdgfa")
+SEVENS_WITH_MATES = (SEVEN_WITH_23, SEVEN_WITH_25, SEVEN_WITH_30, SEVEN_WITH_33, SEVEN_WITH_63, turned(7, 2))
+SEVENS_WITHOUT_MATES = (SEVEN_UNEVEN, SEVEN_WITH_3, SEVEN_WITH_55)
 
 ORDINARY = (
     ONE,
@@ -78,6 +107,87 @@ def plain_most(square):
             if not any(share_a_place(one, other) for one, other in combinations(some, 2)):
                 return many
     return 0
+
+
+def plain_clash(one, other):
+    places = list(product(range(len(one)), repeat=2))
+    for pair in places:
+        found = [(row, column) for row, column in places if (one[row][column], other[row][column]) == pair]
+        if len(found) > 1:
+            return (pair, found[0], found[1])
+    return None
+
+
+def plain_has_mate(square, rows=None):
+    """By trying all rows of a mate; its letters can be named so that its first row is in order."""
+    many = len(square)
+    rows = rows or [tuple(range(many))]
+    if len(rows) == many:
+        return True
+    pairs = {pair for above, below in zip(square, rows) for pair in zip(above, below)}
+    for row in permutations(range(many)):
+        if any(letter in column for letter, column in zip(row, zip(*rows))):
+            continue
+        if pairs.isdisjoint(zip(square[len(rows)], row)) and plain_has_mate(square, rows + [row]):
+            return True
+    return False
+
+
+def plain_has_parting(left, cuts):
+    """Whether the places left, a set, are just those of some cuts, given as sets of places."""
+    if not left:
+        return True
+    meeting = min(([cut for cut in cuts if place in cut] for place in sorted(left)), key=len)
+    return any(plain_has_parting(left - cut, [other for other in cuts if not other & cut]) for cut in meeting)
+
+
+def plain_marks(square):
+    many = len(square)
+    by_letter = [[(row, columns.index(letter)) for row, columns in enumerate(square)] for letter in range(many)]
+    found = []
+    for rows in product((0, 1), repeat=many):
+        for columns in product((0, 1), repeat=many):
+            letters = []
+            for places in by_letter:
+                needed = {rows[row] ^ columns[column] for row, column in places}
+                if len(needed) > 1:
+                    break
+                letters.extend(needed)
+            else:
+                found.append((rows, columns, tuple(letters)))
+    return found
+
+
+def plain_can_be_filled(many, block):
+    """By trying letters place by place, row after row."""
+    rows = [list(row) + [None] * (many - len(row)) for row in block]
+    rows += [[None] * many for row in range(many - len(block))]
+
+    def can_go_on(place):
+        if place == many * many:
+            return True
+        row, column = divmod(place, many)
+        if rows[row][column] is not None:
+            return can_go_on(place + 1)
+        taken = set(rows[row]) | {line[column] for line in rows}
+        for letter in sorted(set(range(many)) - taken):
+            rows[row][column] = letter
+            if can_go_on(place + 1):
+                return True
+        rows[row][column] = None
+        return False
+
+    return can_go_on(0)
+
+
+def corner_of(square, rows, columns):
+    return tuple(row[:columns] for row in square[:rows])
+
+
+def seconds_for(function, *arguments):
+    begun = perf_counter()
+    function(*arguments)
+    return perf_counter() - begun
 
 
 class Thorny:
