@@ -1,15 +1,10 @@
 """Cuts of a square: for each row a column, so that all letters stand there, each once."""
 
-from matesquare.errors import BadCut, TooBig
-from matesquare.squares import check_number, checked, is_order
+from matesquare.errors import BadCut
+from matesquare.squares import check_number, check_size, checked, is_order
 
 LARGEST_FOR_ALL_CUTS = 7
 LARGEST_FOR_MOST_APART = 5
-
-
-def check_size(square, largest):
-    if len(checked(square)) > largest:
-        raise TooBig(f"this is told of squares of a size up to {largest} only")
 
 
 def letters_along(square, columns):

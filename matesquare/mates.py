@@ -1,8 +1,8 @@
 """Mates: two squares that laid on one another have each pair of letters once."""
 
-from matesquare.cuts import all_cuts, are_apart, check_size
+from matesquare.cuts import all_cuts, are_apart
 from matesquare.errors import BadSquare
-from matesquare.squares import checked, column_of, places_of
+from matesquare.squares import check_size, checked, column_of, places_of
 
 LARGEST_FOR_PARTING = 7
 

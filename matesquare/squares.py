@@ -1,6 +1,6 @@
 """Squares of letters: what one is, and what stands where in it."""
 
-from matesquare.errors import BadNumber, BadPlace, BadSquare
+from matesquare.errors import BadNumber, BadOrder, BadPlace, BadSquare, TooBig
 
 LARGEST_SIZE = 9
 
@@ -49,6 +49,11 @@ def checked(square):
     return square
 
 
+def check_size(square, largest):
+    if len(checked(square)) > largest:
+        raise TooBig(f"this is told of squares of a size up to {largest} only")
+
+
 def check_many(thing):
     if not is_number_below(LARGEST_SIZE + 1, thing) or thing == 0:
         raise BadNumber("this is no size from 1 to 9")
@@ -58,6 +63,11 @@ def check_number(many, thing):
     # The refused thing is not shown: it may be of any kind, and showing it may fail.
     if not is_number_below(many, thing):
         raise BadPlace("this is no number of a row, a column or a letter of the square")
+
+
+def check_order(many, thing):
+    if not is_order(many, thing):
+        raise BadOrder("this is no order of so many numbers")
 
 
 def letter_at(square, row, column):

@@ -1,5 +1,6 @@
 """Squares to test with, wrong things of many kinds, and slow, plain answers to compare with."""
 
+import unittest
 from itertools import combinations, permutations, product
 from time import perf_counter
 
@@ -85,6 +86,10 @@ def rows_beyond(many, rows):
 
 def squares_beginning_in_order(many):
     return rows_beyond(many, [tuple(range(many))])
+
+
+def all_squares(many):
+    return [square for first in permutations(range(many)) for square in rows_beyond(many, [first])]
 
 
 def plain_cuts(square):
@@ -180,6 +185,24 @@ def plain_can_be_filled(many, block):
     return can_go_on(0)
 
 
+def some_block(chance, many, height, length):
+    """Row after row, letters by chance that are not in the way; begun anew where none is left."""
+    while True:
+        rows = []
+        for row in range(height):
+            letters = []
+            for column in range(length):
+                free = sorted(set(range(many)) - set(letters) - {above[column] for above in rows})
+                if not free:
+                    break
+                letters.append(chance.choice(free))
+            if len(letters) < length:
+                break
+            rows.append(tuple(letters))
+        if len(rows) == height:
+            return tuple(rows)
+
+
 def corner_of(square, rows, columns):
     return tuple(row[:columns] for row in square[:rows])
 
@@ -188,6 +211,18 @@ def seconds_for(function, *arguments):
     begun = perf_counter()
     function(*arguments)
     return perf_counter() - begun
+
+
+class WithSquares(unittest.TestCase):
+    def assert_square(self, square, many):
+        self.assertIs(square.__class__, tuple)
+        self.assertEqual(len(square), many)
+        for row in square:
+            self.assertIs(row.__class__, tuple)
+            for letter in row:
+                self.assertIs(letter.__class__, int)
+        for line in list(square) + list(zip(*square)):
+            self.assertEqual(sorted(line), list(range(many)))
 
 
 class Thorny:
@@ -300,3 +335,129 @@ def wrong_squares():
 
 def wrong_numbers(many):
     return things_of_other_kinds() + [(0,), -1, -many, many, many + 1, HUGE, -HUGE]
+
+
+NINE_MIXED = shuffled(
+    turned(9, 2), (3, 0, 6, 1, 8, 5, 2, 7, 4), (2, 6, 4, 7, 0, 3, 8, 1, 5), (5, 1, 0, 8, 6, 2, 7, 4, 3)
+)
+# Squares with many twos, and with rings of many lengths.
+SIX_WITH_TWOS = square_of("afecdb/facebd/deabcf/cbfdae/bcdfea/edbafc")
+SEVEN_WITH_TWOS = square_of("fdbcaeg/dfcabge/egabdfc/bcfgead/cegdfba/abdegcf/gaefcdb")
+EIGHT_WITH_TWOS = square_of("bcgehadf/hbdgacfe/edcafbgh/fgacdheb/cafhegbd/dhebgfca/aebfcdhg/gfhdbeac")
+NINE_WITH_TWOS = square_of(
+    "fecgbadih/abgdichfe/gaeifhcdb/cgbedifha/dciahebgf/hfacegibd/edhfgbaci/ihfbcdeag/bidhafgec"
+)
+WITH_TWOS = (TWO, TWO[::-1], FOUR_WITH_CUTS, FIVE_WITH_FEW, SIX_WITH_TWOS, SEVEN_WITH_TWOS, EIGHT_WITH_TWOS,
+             NINE_WITH_TWOS)
+OF_ALL_SIZES = ORDINARY + WITH_TWOS + (turned(8, 3), fielded(8, 5), turned(9), NINE_MIXED)
+
+
+def wrong_orders(many):
+    """Things that are no order of so many numbers."""
+    order = tuple(range(many))
+    wrong = things_of_other_kinds() + [0, 1, many, HUGE]
+    for place in order:
+        wrong += [order[:place] + (thing,) + order[place + 1:] for thing in things_of_other_kinds()]
+        wrong += [order[:place] + (number,) + order[place + 1:] for number in (-1, many, HUGE, -HUGE, place - many)]
+        wrong += [order[:place] + (other,) + order[place + 1:] for other in order if other != place]
+        wrong += [order[:place] + order[place + 1:]]
+    wrong += [
+        list(order),
+        range(many),
+        "".join(str(number) for number in order),
+        order + (many,),
+        order + (0,),
+        order + order,
+        (order,),
+        (0,) * (many + 1),
+        (0,) * many if many > 1 else (0, 0),
+        tuple(number + 1 for number in order),
+        tuple(number - many for number in order),
+        tuple(float(number) for number in order),
+        tuple(False if number == 0 else number for number in order),
+    ]
+    if many > 1:
+        wrong += [tuple(True if number == 1 else number for number in order)]
+    return wrong
+
+
+def plain_exchanged(square, order):
+    """By looking for each new row and column through all places."""
+    many = len(square)
+    threes = [(row, column, square[row][column]) for row, column in product(range(many), repeat=2)]
+    return tuple(
+        tuple(
+            next(three[order[2]] for three in threes if (three[order[0]], three[order[1]]) == place)
+            for place in product((row,), range(many))
+        )
+        for row in range(many)
+    )
+
+
+def plain_twos(square):
+    """All tuples of four numbers are tried."""
+    return [
+        (one, other, left, right)
+        for one, other, left, right in product(range(len(square)), repeat=4)
+        if one < other and left < right
+        and len({square[one][left], square[one][right], square[other][left], square[other][right]}) == 2
+    ]
+
+
+def plain_rings(square, one, two):
+    """Each column's ring, of which those that begin with their least column are kept."""
+    found = []
+    for begin in range(len(square)):
+        ring = [begin]
+        while True:
+            letter = square[two][ring[-1]]
+            onward = [column for column in range(len(square)) if square[one][column] == letter]
+            if onward == [begin]:
+                break
+            ring += onward
+        if begin == min(ring):
+            found.append(ring)
+    return found
+
+
+def plain_put_in(one, other):
+    inner = len(other)
+    many = len(one) * inner
+    return tuple(
+        tuple(one[row // inner][column // inner] * inner + other[row % inner][column % inner]
+              for column in range(many))
+        for row in range(many)
+    )
+
+
+def all_renamed(square):
+    orders = list(permutations(range(len(square))))
+    return {shuffled(square, *three) for three in product(orders, repeat=3)}
+
+
+def texts_alike(square):
+    """All that come by renaming, as rows of digits in one text.
+
+    All orders come of two: that which swaps the first two numbers, and that which moves all on by one.
+    """
+    many = len(square)
+    digits = "0123456789"[:many]
+    orders = [[1, 0] + list(range(2, many)) if many > 1 else [0], list(range(1, many)) + [0]]
+    ways = [(order, str.maketrans(digits, "".join(digits[number] for number in order))) for order in orders]
+    begin = "".join(digits[letter] for row in square for letter in row)
+    found = {begin}
+    left = [begin]
+    while left:
+        text = left.pop()
+        rows = [text[place:place + many] for place in range(0, many * many, many)]
+        for order, names in ways:
+            columns = ["".join([row[column] for column in order]) for row in rows]
+            for changed in ("".join([rows[row] for row in order]), "".join(columns), text.translate(names)):
+                if changed not in found:
+                    found.add(changed)
+                    left.append(changed)
+    return found
+
+
+def square_of_digits(text, many):
+    return tuple(tuple(int(sign) for sign in text[place:place + many]) for place in range(0, many * many, many))

@@ -6,8 +6,8 @@ from random import Random
 from matesquare.errors import BadBlock, BadNumber
 from matesquare.filling import filled, scarce
 from tests.samples import (
-    HUGE, ONE, ORDINARY, TWO, Thorny, corner_of, fielded, plain_can_be_filled, seconds_for, shuffled,
-    squares_beginning_in_order, things_of_other_kinds, turned,
+    HUGE, ONE, ORDINARY, TWO, Thorny, all_squares, corner_of, fielded, plain_can_be_filled, seconds_for, shuffled,
+    some_block, things_of_other_kinds, turned,
 )
 
 GREAT = (turned(8, 3), fielded(8, 5), turned(9), turned(9, 7),
@@ -30,32 +30,6 @@ def all_blocks(many, height, length):
             if all(letter not in column for letter, column in zip(row, zip(*block)))
         ]
     return blocks
-
-
-def all_squares(many):
-    return {
-        tuple(tuple(names[letter] for letter in row) for row in square)
-        for square in squares_beginning_in_order(many)
-        for names in permutations(range(many))
-    }
-
-
-def some_block(chance, many, height, length):
-    """Row after row, letters by chance that are not in the way; begun anew where none is left."""
-    while True:
-        rows = []
-        for row in range(height):
-            letters = []
-            for column in range(length):
-                free = sorted(set(range(many)) - set(letters) - {above[column] for above in rows})
-                if not free:
-                    break
-                letters.append(chance.choice(free))
-            if len(letters) < length:
-                break
-            rows.append(tuple(letters))
-        if len(rows) == height:
-            return tuple(rows)
 
 
 def block_of_few(many, height, length, letters):
